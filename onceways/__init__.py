@@ -1,0 +1,1 @@
+"""Onceways: ways that come to no place twice."""

@@ -1,0 +1,30 @@
+import importlib
+import inspect
+import unittest
+
+INTERFACE = {
+    "onceways.webs": {
+        "web_of": "(places, roads)",
+        "grid": "(rows, columns)",
+        "roads_at": "(web, place)",
+        "beside": "(web, place)",
+        "reordered": "(web, order)",
+    },
+    "onceways.ways": {
+        "is_way": "(web, one, other, places)",
+        "is_closed": "(web, places)",
+        "roads_of": "(web, places, closed=False)",
+        "way_of": "(web, one, other, roads)",
+        "closed_of": "(web, roads)",
+        "every_way": "(web, one, other)",
+        "every_closed": "(web)",
+    },
+}
+
+
+class InterfaceTest(unittest.TestCase):
+    def test_names_arguments_and_defaults(self):
+        for module, functions in INTERFACE.items():
+            for name, arguments in functions.items():
+                function = getattr(importlib.import_module(module), name)
+                self.assertEqual(str(inspect.signature(function)), arguments, name)
