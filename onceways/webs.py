@@ -48,6 +48,10 @@ def beside(web, place):
     return sorted([a + b - place for a, b in web[1] if place in (a, b)])
 
 
+def places_on(roads):
+    return [a for a, b in roads] + [b for a, b in roads]
+
+
 def reordered(web, order):
     roads = web[1]
     if sorted(order) != list(range(len(roads))):

@@ -2,6 +2,7 @@
 
 import copy
 import itertools
+import random
 import unittest
 
 from onceways import errors
@@ -75,6 +76,80 @@ def plain_closed(web):
     lists = [places for places in lists if places[0] == min(places) and places[1] < places[-1]]
     found = [(places, plain_roads(web, places, True)) for places in lists]
     return [pair for pair in found if pair[1] is not None]
+
+
+def wrong_ends(web):
+    places = web[0]
+    return [(-1, 0), (0, -1), (places, 0), (0, places), (0, 0), (places - 1, places - 1), (-1, -1),
+            (places, places), (places, places + 1), (VERY_GREAT, 0), (0, VERY_GREAT), (0, -VERY_GREAT)]
+
+
+def random_webs(seed, many, most=6, most_roads=15):
+    source = random.Random(seed)
+    for nothing in range(many):
+        places = source.randint(3, most)
+        roads = source.sample(all_pairs(places), min(source.randint(0, len(all_pairs(places))), most_roads))
+        yield (places, roads)
+
+
+def shuffled(web, seed):
+    return (web[0], random.Random(seed).sample(web[1], len(web[1])))
+
+
+def ringed_web(seed, roads=30):
+    """Sixteen places in a ring, and roads across it, in any order."""
+    source = random.Random(seed)
+    ring = [(k, k + 1) for k in range(15)] + [(0, 15)]
+    others = [road for road in all_pairs(16) if road not in ring]
+    return shuffled((16, ring + source.sample(others, roads - 16)), seed)
+
+
+def all_sets(roads):
+    """All sets of the first so many roads."""
+    return [list(some) for size in range(roads + 1) for some in itertools.combinations(range(roads), size)]
+
+
+def gone_sets(web, one, other, first=0):
+    """The sets of all ways by roads from the first one on, each gone along."""
+    found = []
+
+    def go(places, roads):
+        if places[-1] == other:
+            found.append(sorted(roads))
+            return
+        for number in range(first, len(web[1])):
+            if places[-1] in web[1][number]:
+                place = sum(web[1][number]) - places[-1]
+                if place not in places:
+                    go([*places, place], [*roads, number])
+
+    go([one], [])
+    return sorted(found)
+
+
+def gone_closed(web):
+    """The sets of all closed ways, by their least road and a way back."""
+    return sorted([number, *roads] for number, (a, b) in enumerate(web[1])
+                  for roads in gone_sets(web, a, b, number + 1))
+
+
+def plain_table(sets):
+    """The least table of a family: a node is what is left of it behind some decided roads, told apart by its sets."""
+    root = frozenset(map(tuple, sets))
+    numbers = {frozenset(): 0, frozenset([()]): 1}
+    found = [root] if root not in numbers else []
+    numbers.update({family: 2 for family in found})
+    nodes = []
+    for family in found:
+        road = min(min(roads) for roads in family if roads)
+        low = frozenset(roads for roads in family if road not in roads)
+        high = frozenset(roads[1:] for roads in family if road in roads)
+        for part in (low, high):
+            if part not in numbers:
+                numbers[part] = len(found) + 2
+                found.append(part)
+        nodes.append((road, numbers[low], numbers[high]))
+    return (numbers[root], nodes)
 
 
 def all_pairs(places):

@@ -4,11 +4,7 @@ from onceways.errors import NoEnds, TooMany
 from onceways.webs import grid, reordered
 from onceways.ways import closed_of, every_closed, every_way, roads_of, way_of
 from tests.support import (FOUR_WITHOUT_ENDS, FOUR_WITHOUT_MIDDLE, FULL_FIVE, FULL_FOUR, TRIANGLE, VERY_GREAT, Case,
-                           all_pairs, plain_closed, plain_open, row_of)
-
-
-def shuffled(web, seed):
-    return (web[0], random.Random(seed).sample(web[1], len(web[1])))
+                           all_pairs, plain_closed, plain_open, row_of, shuffled)
 
 
 def hung(web, part):

@@ -19,6 +19,26 @@ INTERFACE = {
         "every_way": "(web, one, other)",
         "every_closed": "(web)",
     },
+    "onceways.walls": {
+        "front": "(web, i)",
+        "hopeful": "(web, one, other, i, roads)",
+        "wall_of": "(web, one, other, i, roads)",
+        "walls": "(web, one, other, i)",
+    },
+    "onceways.counts": {
+        "count": "(web, one, other)",
+        "count_closed": "(web)",
+        "by_length": "(web, one, other)",
+        "closed_by_length": "(web)",
+    },
+    "onceways.tables": {
+        "table_of": "(sets)",
+        "is_least": "(web, table)",
+        "sets_of": "(table)",
+        "has_set": "(table, roads)",
+        "ways_table": "(web, one, other)",
+        "closed_table": "(web)",
+    },
 }
 
 

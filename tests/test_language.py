@@ -52,6 +52,25 @@ def bound_names(tree):
             yield node.id, node.lineno
 
 
+def own_values_and_methods():
+    """What the classes of the package name themselves: methods, and values given to self."""
+    methods, values = set(), set()
+    for name, tree in trees():
+        for kind in (node for node in ast.walk(tree) if isinstance(node, ast.ClassDef)):
+            methods |= {node.name for node in kind.body if isinstance(node, ast.FunctionDef)}
+        for node in ast.walk(tree):
+            if isinstance(node, ast.Attribute) and isinstance(node.ctx, ast.Store) and node.value.id == "self":
+                values.add(node.attr)
+    return values, methods
+
+
+def set_sides(node):
+    """The parts of several sets with - & | ^ between them."""
+    if isinstance(node, ast.BinOp) and isinstance(node.op, (ast.Sub, ast.BitAnd, ast.BitOr, ast.BitXor)):
+        return set_sides(node.left) + set_sides(node.right)
+    return [node]
+
+
 def is_docstring(tree, node):
     return tree.body and node is tree.body[0]
 
@@ -131,6 +150,8 @@ class TreesTest(unittest.TestCase):
             imported = [alias.name for node in ast.walk(tree) if isinstance(node, ast.ImportFrom)
                         for alias in node.names]
             for word, row in bound_names(tree):
+                if word == "__init__":
+                    continue
                 self.assertRegex(word, r"^[A-Za-z][A-Za-z0-9_]*$")
                 self.assertFalse(hasattr(builtins, word) or word in NAMES_OUT + imported, (name, row, word))
             for node in ast.walk(tree):
@@ -140,11 +161,16 @@ class TreesTest(unittest.TestCase):
             self.assertEqual(len(tops), len(set(tops)))
 
     def test_methods(self):
+        values, methods = own_values_and_methods()
+        self.assertEqual(values & methods, set())
+        taken = {name for kind in (str, int, list, tuple, dict, set, bytes) for name in dir(kind)}
+        self.assertEqual((values | methods) & taken - {"__init__"}, set())
         for name, tree in trees():
-            own = [node.name for node in ast.walk(tree) if isinstance(node, ast.FunctionDef)]
+            called = [node.func for node in ast.walk(tree) if isinstance(node, ast.Call)]
             for node in ast.walk(tree):
                 if isinstance(node, ast.Attribute):
-                    self.assertIn(node.attr, OWN_METHODS + own, (name, node.lineno))
+                    self.assertIn(node.attr, [*OWN_METHODS, *values, *methods], (name, node.lineno))
+                    self.assertTrue(node.attr in values or node in called, (name, node.lineno))
 
     def test_walked_on_the_spot_and_sets_not_kept(self):
         for name, tree in trees():
@@ -154,7 +180,8 @@ class TreesTest(unittest.TestCase):
                     walked.append(node.iter)
                 if isinstance(node, ast.Call) and isinstance(node.func, ast.Name) and node.args:
                     walked += node.args[:1] * (node.func.id in WALKERS)
-                    within += node.args[:1] * (node.func.id in ("sorted", "len"))
+                    if node.func.id == "len" or node.func.id == "sorted" and not node.keywords:
+                        within += set_sides(node.args[0])
                 if isinstance(node, ast.Compare):
                     within += [node.left] + node.comparators
             for node in ast.walk(tree):

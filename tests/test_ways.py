@@ -1,10 +1,9 @@
 import itertools
-import random
 
 from onceways.errors import NoEnds, NoWay
 from onceways.webs import grid
 from onceways.ways import closed_of, every_closed, every_way, is_closed, is_way, roads_of, way_of
-from tests.support import GREAT, VERY_GREAT, Case, all_pairs, plain_closed, plain_open
+from tests.support import GREAT, VERY_GREAT, Case, plain_closed, plain_open, random_webs, wrong_ends
 
 # A row 0 1 2 3 with a triangle 3 4 5 and a road across it; place 6 has no road.
 WEB = (7, [(2, 3), (0, 1), (1, 2), (3, 5), (0, 2), (4, 5), (3, 4)])
@@ -14,26 +13,12 @@ def fresh_web():
     return (WEB[0], list(WEB[1]))
 
 
-def wrong_ends(web):
-    places = web[0]
-    return [(-1, 0), (0, -1), (places, 0), (0, places), (0, 0), (places - 1, places - 1), (-1, -1),
-            (places, places), (places, places + 1), (VERY_GREAT, 0), (0, VERY_GREAT), (0, -VERY_GREAT)]
-
-
 def turned(places):
     """All lists that go round the same closed way."""
     lists = []
     for way in (list(places), list(reversed(places))):
         lists += [way[k:] + way[:k] for k in range(len(way))]
     return lists
-
-
-def random_webs(seed, many):
-    source = random.Random(seed)
-    for nothing in range(many):
-        places = source.randint(3, 6)
-        roads = source.sample(all_pairs(places), source.randint(0, len(all_pairs(places))))
-        yield (places, roads)
 
 
 class IsWayTest(Case):
