@@ -77,6 +77,6 @@ def numbered(root, nodes):
     return (numbers[root], [(road, numbers[low], numbers[high]) for road, low, high in told])
 
 
-def least_table(start, parts, most=MOST_NODES):
+def least_table(start, parts, most):
     shelf = Shelf(most)
     return numbered(laid_down(start, parts, shelf), shelf.nodes)

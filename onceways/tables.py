@@ -3,7 +3,7 @@
 from onceways.errors import TooMany
 from onceways.families import table_of_ways
 from onceways.marks import marks_of_ends
-from onceways.shelf import found_from, least_table
+from onceways.shelf import MOST_NODES, found_from, least_table
 from onceways.tallies import size_of
 from onceways.ways import check_ends
 
@@ -23,7 +23,8 @@ def family_parts(sets):
 
 # Sorted and each once, so that what is left of two families is the same where it has the same sets.
 def table_of(sets):
-    return least_table(tuple(sorted(set([tuple(roads) for roads in sets]))), family_parts)
+    family = tuple(sorted(set([tuple(roads) for roads in sets])))
+    return least_table(family, family_parts, MOST_NODES)
 
 
 def is_right_node(web, nodes, node):

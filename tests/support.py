@@ -104,6 +104,16 @@ def ringed_web(seed, roads=30):
     return shuffled((16, ring + source.sample(others, roads - 16)), seed)
 
 
+# The table of all sets of the roads 0 to 29.
+ALL_SETS = (2, [(k, k + 3, k + 3) for k in range(29)] + [(29, 1, 1)])
+
+
+def random_family(source, roads, many):
+    """At most so many sets of the first so many roads, each once."""
+    sets = {tuple(sorted(source.sample(range(roads), source.randint(0, roads)))) for nothing in range(many)}
+    return sorted(map(list, sets))
+
+
 def all_sets(roads):
     """All sets of the first so many roads."""
     return [list(some) for size in range(roads + 1) for some in itertools.combinations(range(roads), size)]
@@ -150,6 +160,19 @@ def plain_table(sets):
                 found.append(part)
         nodes.append((road, numbers[low], numbers[high]))
     return (numbers[root], nodes)
+
+
+def family_with(nodes):
+    """A list of sets whose least table has just so many nodes."""
+    source = random.Random(nodes)
+    sets = []
+    while True:
+        more = sets + [sorted(source.sample(range(30), source.randint(1, 15)))]
+        many = len(plain_table(more)[1])
+        if many == nodes:
+            return more
+        if many < nodes:
+            sets = more
 
 
 def all_pairs(places):

@@ -39,6 +39,29 @@ INTERFACE = {
         "ways_table": "(web, one, other)",
         "closed_table": "(web)",
     },
+    "onceways.orders": {
+        "put_into": "(order, roads)",
+        "least_order": "(web, one, other, orders)",
+    },
+    "onceways.cuts": {
+        "cut": "(web, one, other)",
+        "is_cut": "(web, one, other, places)",
+    },
+    "onceways.joined": {
+        "both_of": "(one, other)",
+        "either_of": "(one, other)",
+        "first_without": "(one, other)",
+        "through_roads": "(table, roads, off)",
+        "touching_all": "(table, lists)",
+        "of_lengths": "(table, low, high)",
+    },
+    "onceways.numbers": {
+        "how_many": "(table)",
+        "how_many_with": "(table, road)",
+        "set_by_number": "(table, number)",
+        "number_of_set": "(table, roads)",
+        "beginning_with": "(table, roads)",
+    },
 }
 
 

@@ -124,6 +124,7 @@ class TreesTest(unittest.TestCase):
                 if isinstance(node, ast.FunctionDef):
                     self.assertEqual((node.decorator_list, node.args.vararg, node.args.kwarg, node.args.kwonlyargs),
                                      ([], None, None, []))
+                    self.assertTrue(all(isinstance(default, ast.Constant) for default in node.args.defaults))
                     self.assertLessEqual(node.end_lineno - node.lineno + 1, 40)
 
     def test_imports(self):

@@ -5,29 +5,13 @@ import random
 from onceways.errors import TooMany
 from onceways.tables import closed_table, has_set, is_least, sets_of, table_of, ways_table
 from onceways.webs import grid
-from tests.support import VERY_GREAT, Case, all_pairs, all_sets, plain_table, ringed_web
+from tests.support import (ALL_SETS, VERY_GREAT, Case, all_pairs, all_sets, family_with, plain_table, random_family,
+                           ringed_web)
 
 # A web whose roads are numbered 0 to 4, one whose are 0 to 29, and a table of roads below 5 that is least.
 FIVE_ROADS = (4, [(0, 1), (0, 2), (1, 2), (1, 3), (2, 3)])
 THIRTY_ROADS = (16, all_pairs(16)[:30])
 LEAST = (2, [(0, 3, 4), (1, 1, 4), (2, 5, 6), (3, 0, 1), (4, 1, 1)])
-
-
-def random_family(source, roads, many):
-    return [sorted(source.sample(range(roads), source.randint(0, roads))) for nothing in range(many)]
-
-
-def family_with(nodes):
-    """A list of sets whose least table has just so many nodes."""
-    source = random.Random(nodes)
-    sets = []
-    while True:
-        more = sets + [sorted(source.sample(range(30), source.randint(1, 15)))]
-        many = len(plain_table(more)[1])
-        if many == nodes:
-            return more
-        if many < nodes:
-            sets = more
 
 
 def paths(nodes, number):
@@ -81,7 +65,7 @@ class TableOfTest(Case):
                     table = table_of(sets)
                     self.assertEqual(table, plain_table(sets))
                     self.assertIs(is_least(THIRTY_ROADS, table), True)
-                    self.assertEqual(sorted(paths(table[1], table[0])), sorted(map(list, set(map(tuple, sets)))))
+                    self.assertEqual(sorted(paths(table[1], table[0])), sets)
 
     def test_three_hundred_sets(self):
         sets = [[a, b] for a, b in all_pairs(25)]
@@ -247,7 +231,7 @@ class SetsOfTest(Case):
     def test_there_and_back(self):
         source = random.Random(42)
         for nothing in range(20):
-            sets = sorted(map(list, set(map(tuple, random_family(source, 30, 25)))))
+            sets = random_family(source, 30, 25)
             self.tells(sets, sets_of, table_of(sets))
 
     def test_just_three_hundred_and_one_more(self):
@@ -258,7 +242,7 @@ class SetsOfTest(Case):
             self.tells(sorted(sets[1:] + [more]), sets_of, plain_table(sets[1:] + [more]))
 
     def test_very_many(self):
-        self.refuses(TooMany, sets_of, (2, [(k, k + 3, k + 3) for k in range(29)] + [(29, 1, 1)]))
+        self.refuses(TooMany, sets_of, copy.deepcopy(ALL_SETS))
 
 
 class HasSetTest(Case):
@@ -286,7 +270,7 @@ class HasSetTest(Case):
                 self.tells(False, has_set, copy.deepcopy(table), roads)
 
     def test_very_many(self):
-        table = (2, [(k, k + 3, k + 3) for k in range(29)] + [(29, 1, 1)])
+        table = copy.deepcopy(ALL_SETS)
         self.assertIs(has_set(table, list(range(30))), True)
         self.assertIs(has_set(table, [0, 29]), True)
         self.assertIs(has_set(table, [0, 30]), False)
