@@ -26,20 +26,18 @@ def narrow_order(web):
     return order
 
 
-def laid_ways(web, ends, shelf):
-    steps = steps_of(web)
-
+# decide tells of marks, a step, the ends and whether its road is chosen the marks behind that step, or None.
+def laid_ways(firsts, steps, ends, decide, shelf):
     def parts(known):
         number, marks = known
         if marks is None:
             return 0
         if number == len(steps):
             return 1 if is_done(marks) else 0
-        without = decided(marks, steps[number], ends, False)
-        chosen = decided(marks, steps[number], ends, True)
+        without = decide(marks, steps[number], ends, False)
+        chosen = decide(marks, steps[number], ends, True)
         return (number, (number + 1, without), (number + 1, chosen))
 
-    firsts = first_marks(web, ends)
     return laid_down((0, firsts[0] if firsts else None), parts, shelf)
 
 
@@ -91,18 +89,25 @@ def turned(shelf, root, order):
     return (2, nodes)
 
 
-def narrow_family(web, ends):
+# Of the ways on which the needed places are, of all of them or of such as another making of steps and deciding lets by.
+def narrow_family(web, ends, needed, make_steps, decide):
     order = narrow_order(web)
+    narrow = reordered(web, order)
     shelf = Shelf()
-    return (shelf, laid_ways(reordered(web, order), ends, shelf), order)
+    root = laid_ways(first_marks(narrow, needed), make_steps(narrow, needed), ends, decide, shelf)
+    return (shelf, root, order)
 
 
-def table_of_ways(web, ends):
-    shelf, root, order = narrow_family(web, ends)
+def table_of_kind(web, ends, needed, make_steps, decide):
+    shelf, root, order = narrow_family(web, ends, needed, make_steps, decide)
     return turned(shelf, root, order)
+
+
+def table_of_ways(web, ends, needed):
+    return table_of_kind(web, ends, needed, steps_of, decided)
 
 
 # How many ways there are, and of how many roads, does not hang on the order of the roads; this table may have any size.
 def narrow_table(web, ends):
-    shelf, root, order = narrow_family(web, ends)
+    shelf, root, order = narrow_family(web, ends, ends, steps_of, decided)
     return (root, shelf.nodes)

@@ -1,8 +1,8 @@
 """Marks: one for each place, of how the roads chosen so far belong together, and how one more road changes them.
 
 A loose end bears the other loose end of its piece, or the mark of that one where it is one of the two ends. Places that
-are left behind or not come to yet bear FREE, so that choices which go on alike have the same marks. One more number
-stands behind those of the places: FREE, or DONE.
+are left behind or not come to yet bear FREE, so that choices which go on alike have the same marks; one that no way
+may come to any more bears BARRED. One more number stands behind those of the places: FREE, or DONE.
 """
 
 from onceways.webs import beside
@@ -11,6 +11,7 @@ USED = -1
 FREE = -2
 FIRST = -3
 SECOND = -4
+BARRED = -5
 DONE = 0
 
 
@@ -18,18 +19,29 @@ def marks_of_ends(one, other):
     return {one: FIRST, other: SECOND}
 
 
-# Each road, and which of its two places have no later one.
-def steps_of(web):
+# The number of the last road at each place.
+def last_roads(web):
     last = {}
     for number, road in enumerate(web[1]):
         last[road[0]] = number
         last[road[1]] = number
-    return [(road, [place for place in road if last[place] == number]) for number, road in enumerate(web[1])]
+    return last
 
 
-# The marks ahead of all roads, alone in a list; an end without roads can come to none, so the list is then empty.
-def first_marks(web, ends):
-    if not all([beside(web, place) for place in ends]):
+# Each road, which of its two places have no later one, and which of these are needed: they must be on the way.
+def steps_of(web, needed):
+    last = last_roads(web)
+    steps = []
+    for number, road in enumerate(web[1]):
+        leaving = [place for place in road if last[place] == number]
+        steps.append((road, leaving, [place for place in leaving if place in needed]))
+    return steps
+
+
+# The marks ahead of all roads, alone in a list; no way comes to a place without roads, so where one is needed the list
+# is empty.
+def first_marks(web, needed):
+    if not all([beside(web, place) for place in needed]):
         return []
     return [tuple([FREE] * (web[0] + 1))]
 
@@ -39,7 +51,17 @@ def is_done(marks):
 
 
 def is_loose(mark):
-    return mark != USED and mark != FREE
+    return mark >= 0 or mark in (FIRST, SECOND)
+
+
+# Of a place at which no more road may be chosen.
+def is_full(mark):
+    return mark in (USED, BARRED)
+
+
+# Of a place at which a road is chosen.
+def is_met(mark):
+    return mark not in (FREE, BARRED)
 
 
 def far_end(marks, place, ends):
@@ -50,7 +72,7 @@ def far_end(marks, place, ends):
 def with_road(marks, road, ends):
     a, b = road
     rounds = marks[a] == b
-    if is_done(marks) or marks[a] == USED or marks[b] == USED or (rounds and ends):
+    if is_done(marks) or is_full(marks[a]) or is_full(marks[b]) or (rounds and ends):
         return None
     far_a = far_end(marks, a, ends)
     far_b = far_end(marks, b, ends)
@@ -68,20 +90,20 @@ def with_road(marks, road, ends):
     return tuple(changed)
 
 
-# A place behind which no road is left may not be a loose end, and an end not be without a road.
-def left_behind(marks, leaving, ends):
+# A place behind which no road is left may not be a loose end, and one that is needed not be without a road.
+def left_behind(marks, leaving, needed):
     if not leaving:
         return marks
+    if any([is_loose(marks[place]) for place in leaving]) or not all([is_met(marks[place]) for place in needed]):
+        return None
     changed = list(marks)
     for place in leaving:
-        if is_loose(marks[place]) or (place in ends and marks[place] == FREE):
-            return None
         changed[place] = FREE
     return tuple(changed)
 
 
 # The marks behind one road more; None where no way can have such a choice, as far as the roads behind it tell.
 def decided(marks, step, ends, chosen):
-    road, leaving = step
+    road, leaving, needed = step
     taken = with_road(marks, road, ends) if chosen else marks
-    return None if taken is None else left_behind(taken, leaving, ends)
+    return None if taken is None else left_behind(taken, leaving, needed)

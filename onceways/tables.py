@@ -81,8 +81,9 @@ def has_set(table, roads):
 
 def ways_table(web, one, other):
     check_ends(web, one, other)
-    return table_of_ways(web, marks_of_ends(one, other))
+    ends = marks_of_ends(one, other)
+    return table_of_ways(web, ends, ends)
 
 
 def closed_table(web):
-    return table_of_ways(web, {})
+    return table_of_ways(web, {}, {})

@@ -20,7 +20,7 @@ def marks_behind(web, ends, i, roads):
     if roads != [number for number in range(i) if number in roads]:
         return None
     known = first_marks(web, ends)
-    for number, step in enumerate(steps_of(web)[:i]):
+    for number, step in enumerate(steps_of(web, ends)[:i]):
         ahead = [decided(marks, step, ends, number in roads) for marks in known]
         known = [marks for marks in ahead if marks is not None]
     return known[0] if known else None
@@ -56,14 +56,20 @@ def behind_step(numbers, step, ends):
     return ahead
 
 
+# How many choices behind i roads have each marks, of those by which a way may come to all needed places.
+def numbers_behind(web, ends, needed, i):
+    numbers = {}
+    for marks in first_marks(web, needed):
+        numbers[marks] = 1
+    for step in steps_of(web, needed)[:i]:
+        numbers = behind_step(numbers, step, ends)
+    return numbers
+
+
 def walls(web, one, other, i):
     check_ends(web, one, other)
     check_step(web, i)
     ends = marks_of_ends(one, other)
-    numbers = {}
-    for marks in first_marks(web, ends):
-        numbers[marks] = 1
-    for step in steps_of(web)[:i]:
-        numbers = behind_step(numbers, step, ends)
+    numbers = numbers_behind(web, ends, ends, i)
     places = front(web, i)
     return sorted([(wall_in(places, marks), numbers[marks]) for marks in numbers])

@@ -62,6 +62,28 @@ INTERFACE = {
         "number_of_set": "(table, roads)",
         "beginning_with": "(table, roads)",
     },
+    "onceways.prices": {
+        "least_price": "(table, prices)",
+        "price_paper": "(table, prices)",
+        "cheapest_sets": "(table, prices, k)",
+    },
+    "onceways.papers": {
+        "paper_shows": "(table, prices, paper, price)",
+    },
+    "onceways.shy": {
+        "shy_table": "(web, s, t)",
+        "shy_closed": "(web)",
+        "through_all": "(web, s, t)",
+        "closed_through_all": "(web)",
+        "over_places": "(web, s, t, places)",
+    },
+    "onceways.words": {
+        "words_below": "(rows, columns, i)",
+        "words_of": "(rows, columns, roads)",
+        "set_by_words": "(rows, columns, words)",
+        "closed_by_words": "(rows, columns)",
+        "all_places_by_words": "(rows, columns)",
+    },
 }
 
 
