@@ -15,7 +15,7 @@ def parts_by(nodes, number, road):
 
 
 # rule tells of a set, by whether the one table and the other one have it, whether the joined one does.
-def joined_by(one, other, rule):
+def joined_by(one, other, rule, most):
     def parts(pair):
         first, second = pair
         roads = [one[1][first - 2][0]] if first > 1 else []
@@ -28,19 +28,31 @@ def joined_by(one, other, rule):
         other_low, other_high = parts_by(other[1], second, road)
         return (road, (low, other_low), (high, other_high))
 
-    return least_table((one[0], other[0]), parts, MOST_NODES)
+    return least_table((one[0], other[0]), parts, most)
+
+
+def in_both(first, second):
+    return first and second
+
+
+def in_either(first, second):
+    return first or second
+
+
+def in_first_alone(first, second):
+    return first and not second
 
 
 def both_of(one, other):
-    return joined_by(one, other, lambda first, second: first and second)
+    return joined_by(one, other, in_both, MOST_NODES)
 
 
 def either_of(one, other):
-    return joined_by(one, other, lambda first, second: first or second)
+    return joined_by(one, other, in_either, MOST_NODES)
 
 
 def first_without(one, other):
-    return joined_by(one, other, lambda first, second: first and not second)
+    return joined_by(one, other, in_first_alone, MOST_NODES)
 
 
 # Of each set something is kept in mind from road to road: start for none, then what after tells of it and the next
@@ -59,34 +71,46 @@ def sifted(table, start, after, good, most):
 
 
 # How many of the wished roads a set has is kept in mind; it has all where these are as many as there are.
-def through_roads(table, roads, off):
+def having(table, roads, off, most):
     def after(many, road):
         if road in off:
             return None
         return many + 1 if road in roads else many
 
     wished = len(set(roads))
-    return sifted(table, 0, after, lambda many: many == wished, MOST_NODES)
+    return sifted(table, 0, after, lambda many: many == wished, most)
 
 
-def touching(table, roads):
+def touching(table, roads, most):
     def after(met, road):
         return met or road in roads
 
-    return sifted(table, False, after, lambda met: met, MOST_ON_THE_WAY)
+    return sifted(table, False, after, lambda met: met, most)
+
+
+def long_ones(table, low, high, most):
+    def after(many, road):
+        return many + 1
+
+    return sifted(table, 0, after, lambda many: low <= many <= high, most)
+
+
+def check_size(table):
+    if len(table[1]) > MOST_NODES:
+        raise TooMany("more nodes than a table may have")
+
+
+def through_roads(table, roads, off):
+    return having(table, roads, off, MOST_NODES)
 
 
 def touching_all(table, lists):
     touched = (table[0], list(table[1]))
     for roads in lists:
-        touched = touching(touched, roads)
-    if len(touched[1]) > MOST_NODES:
-        raise TooMany("more nodes than a table may have")
+        touched = touching(touched, roads, MOST_ON_THE_WAY)
+    check_size(touched)
     return touched
 
 
 def of_lengths(table, low, high):
-    def after(many, road):
-        return many + 1
-
-    return sifted(table, 0, after, lambda many: low <= many <= high, MOST_NODES)
+    return long_ones(table, low, high, MOST_NODES)

@@ -1,7 +1,7 @@
 """Ways: lists of places that come to no place twice, and their sets of roads."""
 
 from onceways.errors import NoEnds, NoWay, TooMany
-from onceways.webs import beside, is_place
+from onceways.webs import beside, is_place, places_on
 
 MOST_WAYS = 300
 
@@ -84,6 +84,15 @@ def closed_of(web, roads):
     if not is_closed(web, places) or roads_of(web, places, True) != roads:
         raise NoWay("the set of no closed way")
     return places
+
+
+# The way of a set, whatever its ends are: an open one from the lesser of them on, a closed one in its told form.
+def any_way_of(web, roads):
+    met = places_on(chosen_roads(web, roads))
+    loose = sorted([place for place in met if met.count(place) == 1])
+    if len(loose) == 2:
+        return way_of(web, loose[0], loose[1], roads)
+    return closed_of(web, roads)
 
 
 def reached(links, start, gone):

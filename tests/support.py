@@ -195,3 +195,79 @@ def row_of(parts):
         roads += [(last + a, last + b) for a, b in within]
         last += places - 1
     return (last + 1, roads)
+
+
+def every_one(web):
+    """All ways of a small web: tuples of their two ends (none of a closed one), their places and their roads."""
+    ways = [((), places, roads) for places, roads in plain_closed(web)]
+    for one, other in all_pairs(web[0]):
+        ways += [((one, other), places, roads) for places, roads in plain_open(web, one, other)]
+    return ways
+
+
+def plainly_wished(web, wish, way):
+    """Whether a wish has a way, by the words that point 41 says of it."""
+    word, (ends, places, roads) = wish[0], way
+    if word in ("and", "or", "but"):
+        first, second = (plainly_wished(web, part, way) for part in wish[1:])
+        return {"and": first and second, "or": first or second, "but": first and not second}[word]
+    return {
+        "open": lambda: set(ends) == set(wish[1:]),
+        "closed": lambda: ends == (),
+        "with": lambda: set(wish[1]) <= set(roads),
+        "off": lambda: not set(wish[1]) & set(roads),
+        "over": lambda: set(wish[1]) <= set(places),
+        "past": lambda: not set(wish[1]) & set(places),
+        "long": lambda: wish[1] <= len(roads) <= wish[2],
+        "shy": lambda: all(number in roads for number, road in enumerate(web[1]) if set(road) <= set(places)),
+        "all": lambda: set(places) == set(range(web[0])),
+    }[word]()
+
+
+def plainly_binds(wish):
+    if wish[0] == "and":
+        return plainly_binds(wish[1]) or plainly_binds(wish[2])
+    if wish[0] == "or":
+        return plainly_binds(wish[1]) and plainly_binds(wish[2])
+    if wish[0] == "but":
+        return plainly_binds(wish[1])
+    return wish[0] in ("open", "closed")
+
+
+def random_leaf(source, web, words):
+    word = source.choice(words)
+    if word == "open":
+        return ("open", *source.sample(range(web[0]), 2))
+    if word == "long":
+        return ("long", source.randint(0, 4), source.randint(1, 9))
+    if word in ("with", "off"):
+        return (word, tuple(source.choices(range(len(web[1])), k=source.randint(0, 2)))) if web[1] else (word, ())
+    if word in ("over", "past"):
+        return (word, tuple(source.choices(range(web[0]), k=source.randint(0, 2))))
+    return (word,)
+
+
+LEAF_WORDS = ("open", "closed", "with", "off", "over", "past", "long", "shy", "all")
+
+
+def random_wish(source, web, depth):
+    """Any good wish of at most this depth."""
+    if depth == 1 or source.random() < 0.1:
+        return random_leaf(source, web, LEAF_WORDS)
+    parts = (random_wish(source, web, depth - 1), random_wish(source, web, depth - 1))
+    return (source.choice(("and", "or", "but")), *parts)
+
+
+def binding_wish(source, web, depth):
+    """Any good wish of at most this depth that binds."""
+    if depth == 1 or source.random() < 0.1:
+        return random_leaf(source, web, ("open", "closed"))
+    word = source.choice(("and", "or", "but"))
+    first = binding_wish(source, web, depth - 1)
+    second = (binding_wish if word == "or" else random_wish)(source, web, depth - 1)
+    return (word, second, first) if word == "and" and source.random() < 0.5 else (word, first, second)
+
+
+# Things of many kinds, none of them a wish, a text of one or of a web, or a row.
+THINGS = [None, True, False, 0, 1, -1, 1.5, "", " ", "x", b"closed", [], {}, (), set(), object, ValueError, len,
+          ["closed"], ("closed", "closed"), {"closed": 1}, [("closed",)], (("closed",),), range(3), frozenset(["shy"])]

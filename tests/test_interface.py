@@ -2,6 +2,8 @@ import importlib
 import inspect
 import unittest
 
+from onceways.desk import Desk
+
 INTERFACE = {
     "onceways.webs": {
         "web_of": "(places, roads)",
@@ -84,6 +86,20 @@ INTERFACE = {
         "closed_by_words": "(rows, columns)",
         "all_places_by_words": "(rows, columns)",
     },
+    "onceways.wishes": {
+        "is_wish": "(thing)",
+        "wished": "(web, wish, roads)",
+        "wish_table": "(web, wish)",
+    },
+    "onceways.texts": {
+        "show_wish": "(wish)",
+        "show_web": "(web)",
+        "read_wish": "(text)",
+        "read_web": "(text)",
+    },
+    "onceways.desk": {
+        "Desk": "()",
+    },
 }
 
 
@@ -93,3 +109,7 @@ class InterfaceTest(unittest.TestCase):
             for name, arguments in functions.items():
                 function = getattr(importlib.import_module(module), name)
                 self.assertEqual(str(inspect.signature(function)), arguments, name)
+
+    def test_methods_of_a_desk(self):
+        for name, arguments in (("say", "(self, row)"), ("web_now", "(self)"), ("names", "(self)")):
+            self.assertEqual(str(inspect.signature(getattr(Desk, name))), arguments, name)

@@ -176,7 +176,8 @@ class ThroughAllTest(TableCase):
         for web, two_ends in ((full, True), (shuffled(full, 1), False)):
             sets = ones_over(web, gone_sets(web, 0, 1), places)
             self.assertIs(self.told_or_refused(sets, through_all, web, 0, 1), two_ends)
-            self.assertIs(self.told_or_refused(ones_over(web, gone_closed(web), places), closed_through_all, web), False)
+            self.assertIs(self.told_or_refused(ones_over(web, gone_closed(web), places), closed_through_all, web),
+                          False)
 
     def test_in_any_order_of_the_roads(self):
         web = grid(4, 3)
