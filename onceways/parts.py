@@ -1,5 +1,5 @@
-"""The parts of wishes: leaves, and what joins two wishes to one. They are gone through without recursion, so that a
-wish may be as deep as a text can write one.
+"""The parts of wishes: leaves, and what joins two wishes to one. They are gone through without recursion, so that what
+lies deeper than a wish is let by here; only is_wish, and so what reads a text, holds a thing to its depth.
 """
 
 JOINING = ("and", "or", "but")

@@ -12,6 +12,7 @@ PAIRED = ("open", "long")
 OF_ROADS = ("with", "off")
 OF_PLACES = ("over", "past")
 GREATEST = 9999
+DEEPEST = 8
 
 
 def is_small(thing):
@@ -28,14 +29,16 @@ def is_leaf(word, rest):
     return all([is_small(thing) for thing in rest[0]])
 
 
+# The depth is looked at on the way down, for a thing in which one part stands twice, and so on down, may have far too
+# many parts to go through.
 def is_wish(thing):
-    pending = [thing]
+    pending = [(thing, 1)]
     while pending:
-        part = pending.pop()
-        if not isinstance(part, tuple) or not part or not isinstance(part[0], str):
+        part, depth = pending.pop()
+        if depth > DEEPEST or not isinstance(part, tuple) or not part or not isinstance(part[0], str):
             return False
         if part[0] in JOINING and len(part) == 3:
-            pending.extend(part[1:])
+            pending.extend([(within, depth + 1) for within in part[1:]])
         elif not is_leaf(part[0], part[1:]):
             return False
     return True

@@ -85,10 +85,9 @@ class WishTextTest(TextCase):
         wish = ("with", tuple(range(900)))
         self.tells(wish, read_wish, "with " + " ".join(map(str, range(900))))
 
-    def test_deep_texts(self):
-        text = "(" * 300 + "shy" + " or all)" * 300
-        self.assertEqual(show_wish(read_wish(text)), text)
-        for wrong in ("(" * 4000, ")" * 4000, "(" * 300 + "shy" + " or all)" * 299, "()" * 2000,
+    def test_very_deep_texts(self):
+        for wrong in ("(" * 300 + "shy" + " or all)" * 300, "(all or " * 300 + "shy" + ")" * 300, "(" * 4000,
+                      ")" * 4000, "(" * 300 + "shy" + " or all)" * 299, "()" * 2000,
                       "(" * 300 + "shy" + " or all)" * 301, "(shy or " * 450, "(shy or " * 450 + ")" * 400):
             self.writes_none(read_wish, wrong)
 

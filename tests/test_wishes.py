@@ -28,8 +28,19 @@ def deep_wish(depth):
     return wish
 
 
-def full_wish(depth):
-    return ("or", full_wish(depth - 1), full_wish(depth - 1)) if depth > 1 else ("closed",)
+def one_sided(word, depth, side, leaf=("closed",)):
+    """Of this depth, the deeper part always on this side, 0 or 1."""
+    wish = leaf
+    for nothing in range(depth - 1):
+        wish = (word, ("shy",), wish) if side else (word, wish, ("shy",))
+    return wish
+
+
+def full_wish(depth, word="or"):
+    wish = ("closed",)
+    for nothing in range(depth - 1):
+        wish = (word, wish, wish)
+    return wish
 
 
 class LikeAll:
@@ -114,19 +125,45 @@ class IsWishTest(Case):
             self.is_none((LikeAll(), *rest))
 
     def test_depths(self):
-        for depth in range(1, 9):
-            self.tells(True, is_wish, deep_wish(depth))
-            self.tells(True, is_wish, full_wish(depth))
-        for wrong in (("closed",), ("shy", 0), ["shy"], None, ("open", 0, True)):
-            thing = wrong
-            for nothing in range(7):
-                thing = ("or", ("shy",), ("but", thing, ("all",))[:3])
-            self.assertIs(is_wish(thing), wrong == ("closed",))
+        for depth in range(1, 13):
+            self.tells(depth <= 8, is_wish, deep_wish(depth))
+            for word in ("and", "or", "but"):
+                self.tells(depth <= 8, is_wish, full_wish(depth, word))
+                for side in (0, 1):
+                    self.tells(depth <= 8, is_wish, one_sided(word, depth, side))
 
-    def test_depths_beyond_are_not_refused(self):
-        self.tells(True, is_wish, deep_wish(9))
-        self.tells(True, is_wish, deep_wish(20))
-        self.is_none(("and", deep_wish(20), ("closed", 0)))
+    def test_depth_of_each_leaf(self):
+        for leaf in LEAVES:
+            for word in ("and", "or", "but"):
+                for side in (0, 1):
+                    self.tells(True, is_wish, one_sided(word, 8, side, leaf))
+                    self.tells(False, is_wish, one_sided(word, 9, side, leaf))
+
+    def test_depth_of_the_greater_within(self):
+        for word, one, other in itertools.product(("and", "or", "but"), range(1, 10), range(1, 10)):
+            for side in (0, 1):
+                thing = (word, one_sided("or", one, side), one_sided("and", other, 1 - side))
+                self.tells(max(one, other) <= 7, is_wish, thing)
+
+    def test_depth_where_one_part_alone_lies_too_deep(self):
+        for sides in itertools.product((0, 1), repeat=7):
+            thing = ("and", ("shy",), ("all",))
+            for depth, side in enumerate(sides, 2):
+                beside = full_wish(depth - 1)
+                thing = ("or", beside, thing) if side else ("or", thing, beside)
+            self.tells(False, is_wish, thing)
+            self.tells(True, is_wish, thing[2 if sides[-1] else 1])
+
+    def test_a_part_within_itself_ever_deeper(self):
+        for depth in (30, 300):
+            self.assertIs(is_wish(full_wish(depth)), False)
+            self.assertIs(is_wish(("and", full_wish(depth), ("closed",))), False)
+            self.assertIs(is_wish(("and", ("closed",), full_wish(depth))), False)
+
+    def test_wrong_parts_at_each_depth(self):
+        for wrong in (("shy", 0), ["shy"], None, ("open", 0, True), ("and", ("shy",)), ("with", (10000,)), "shy", ()):
+            for word, side, depth in itertools.product(("and", "or", "but"), (0, 1), range(1, 12)):
+                self.is_none(one_sided(word, depth, side, wrong))
 
 
 class WishedTest(Case):
@@ -237,6 +274,17 @@ class WishTableTest(Case):
         web = grid(2, 3)
         for nothing in range(6):
             self.is_table_of(web, binding_wish(source, web, 8), every_one(web))
+
+    def test_deeper_things_are_not_refused_where_a_wish_is_handed_in(self):
+        web = grid(2, 3)
+        ways = every_one(web)
+        for depth in (8, 9, 10, 12):
+            thing = ("or", ("open", 0, 5), ("closed",))
+            for k in range(depth - 2):
+                thing = (("and", ("off", (k % 2,)), thing), ("or", thing, ("open", 0, 1 + k % 5)))[k % 2]
+            self.is_table_of(web, thing, ways)
+            for way in ways:
+                self.assertIs(wished(web, thing, way[2]), plainly_wished(web, thing, way))
 
     def test_is_the_asker_s_own(self):
         web = grid(2, 3)
