@@ -382,6 +382,34 @@ class OrderTest(DeskCase):
         for text in ("open 0 0 0", "(open 0 0 and)", "(with 99 or open 9 9", "shy 1", "(shy or shy) "):
             self.refuses_row(NoText, self.desk, "wish a " + text)
 
+    def test_texts_of_what_is_too_deep(self):
+        for word in ("and", "or", "but"):
+            for side in (0, 1):
+                text = "closed"
+                for depth in range(2, 13):
+                    text = f"(open 0 3 {word} {text})" if side else f"({text} {word} open 0 3)"
+                    if depth <= 8:
+                        self.says(self.desk, "wish a " + text, "ok")
+                    else:
+                        self.refuses_row(NoText, self.desk, "wish a " + text)
+                        self.refuses_row(NoText, self.desk, "wish c " + text)
+                    if depth == 8:
+                        kept = text
+                self.says(self.desk, "text a", kept)
+                self.assertEqual(self.desk.names(), ["a"])
+
+    def test_no_row_ahead_of_what_is_too_deep(self):
+        text = "(" * 8 + "closed" + " or closed)" * 8
+        for row in ("wish A " + text, "wish  a " + text, "wish abcdefghi " + text, "wish " + text):
+            self.refuses_row(NoRow, self.desk, row)
+
+    def test_what_is_too_deep_ahead_of_what_the_wish_is_refused_for(self):
+        for leaf, refusal in (("open 0 0", NoEnds), ("with 9", NoWay), ("shy", NoTable)):
+            text = leaf
+            for depth in range(2, 11):
+                text = f"(shy or {text})"
+                self.refuses_row(refusal if depth <= 8 else NoText, self.desk, "wish a " + text)
+
     def test_wish_as_its_table(self):
         for text, refusal in (("open 0 0", NoEnds), ("open 0 4", NoEnds), ("(with 4 or open 0 0)", NoEnds),
                               ("(shy or open 4 0)", NoEnds), ("with 4", NoWay), ("(closed and over 4)", NoWay),

@@ -37,6 +37,7 @@ WRITTEN = [
     (("or", ("shy",), ("or", ("shy",), ("and", ("past", ()), ("all",)))), "(shy or (shy or (past and all)))"),
 ]
 
+JOINING = ("and", "or", "but")
 ANY_SIGNS = [chr(code) for code in range(32, 127)] + ["\t", "\n"]
 
 
@@ -46,6 +47,21 @@ def one_sign_more_or_less(text):
             yield text[:place] + text[place + 1:]
         for sign in " ()0159-ashwdnTX.,\t\n":
             yield text[:place] + sign + text[place:]
+
+
+def deep_text(word, depth, side, leaf="shy"):
+    """Writes a thing of this depth, the deeper part always on this side, 0 or 1."""
+    text = leaf
+    for nothing in range(depth - 1):
+        text = f"(closed {word} {text})" if side else f"({text} {word} closed)"
+    return text
+
+
+def deep_thing(word, depth, side, leaf=("shy",)):
+    thing = leaf
+    for nothing in range(depth - 1):
+        thing = (word, ("closed",), thing) if side else (word, thing, ("closed",))
+    return thing
 
 
 class TextCase(Case):
@@ -84,6 +100,41 @@ class WishTextTest(TextCase):
         self.tells(wish, read_wish, show_wish(wish))
         wish = ("with", tuple(range(900)))
         self.tells(wish, read_wish, "with " + " ".join(map(str, range(900))))
+
+    def test_depths(self):
+        for word, side, depth in itertools.product(JOINING, (0, 1), range(1, 13)):
+            text = deep_text(word, depth, side)
+            if depth <= 8:
+                self.tells(deep_thing(word, depth, side), read_wish, text)
+            else:
+                self.writes_none(read_wish, text)
+
+    def test_depth_of_each_leaf(self):
+        for wish, text in WRITTEN[:20]:
+            for word, side in itertools.product(JOINING, (0, 1)):
+                self.tells(deep_thing(word, 8, side, wish), read_wish, deep_text(word, 8, side, text))
+                self.writes_none(read_wish, deep_text(word, 9, side, text))
+
+    def test_depth_of_the_greater_within(self):
+        for one, other in itertools.product(range(1, 10), repeat=2):
+            text = f"({deep_text('or', one, 0)} but {deep_text('and', other, 1)})"
+            if one <= 7 and other <= 7:
+                self.tells(("but", deep_thing("or", one, 0), deep_thing("and", other, 1)), read_wish, text)
+            else:
+                self.writes_none(read_wish, text)
+
+    def test_both_sides_deep(self):
+        text, thing = "all", ("all",)
+        for depth in range(2, 10):
+            text, thing = f"({text} or {text})", ("or", thing, thing)
+            if depth <= 8:
+                self.tells(thing, read_wish, text)
+            else:
+                self.writes_none(read_wish, text)
+
+    def test_deeper_things_are_shown_all_the_same(self):
+        for word, side, depth in itertools.product(JOINING, (0, 1), range(1, 13)):
+            self.tells(deep_text(word, depth, side), show_wish, deep_thing(word, depth, side))
 
     def test_very_deep_texts(self):
         for wrong in ("(" * 300 + "shy" + " or all)" * 300, "(all or " * 300 + "shy" + ")" * 300, "(" * 4000,
